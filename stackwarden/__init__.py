@@ -1,0 +1,1 @@
+"""Stackwarden: code that is looked at ahead and never sticks."""
