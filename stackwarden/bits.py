@@ -1,9 +1,8 @@
 """Code as bytes: written, and read again."""
 
 from stackwarden.errors import NoCode
-from stackwarden.rows import SIGNS, sign_number, wants
+from stackwarden.rows import MOST_ROWS, SIGNS, sign_number, wants
 
-MOST_ROWS = 100
 MOST_PUSH = 4
 MOST_FIELD = 7
 

@@ -25,6 +25,15 @@ def full_mask(makes, c):
     return (1 << len(fields_of(makes, c))) - 1
 
 
+# Whether a kind is one of these makes, of which the elders must be right.
+def is_kind(makes, kind):
+    if kind[0] in ("any", "number"):
+        return True
+    if not 0 <= kind[1] < len(makes):
+        return False
+    return kind[0] == "whole" or 0 <= kind[2] <= full_mask(makes, kind[1])
+
+
 def beneath(makes, kind, other):
     if other[0] == "any":
         return True

@@ -2,6 +2,8 @@
 
 from stackwarden.words import is_word
 
+MOST_ROWS = 100
+
 # A sign's number is its place here.
 SIGNS = (
     "push", "load", "store", "dup", "swap", "drop",
@@ -9,6 +11,21 @@ SIGNS = (
     "jump", "zero", "kin", "make", "fill", "begin", "get", "put",
     "call", "toss", "say", "give",
 )
+
+# The signs that reckon two numbers.
+RECKONING = ("add", "sub", "mul", "div", "rem", "less", "same")
+
+# The signs that make, change or read a record.
+OF_RECORDS = ("make", "fill", "begin", "get", "put")
+
+# The signs that may go on at a place that they name.
+GOING = ("jump", "zero", "kin")
+
+# The signs behind which the next row is never gone on at.
+ENDING = ("jump", "toss", "give")
+
+# The signs that may be a fault.
+FAULTING = ("div", "rem", "toss", "call")
 
 # What the numbers of a sign stand for; signs without numbers are left out.
 WANTS = {

@@ -35,3 +35,143 @@ def all_kinds():
         kinds.append(("whole", c))
         kinds.extend(("raw", c, mask) for mask in range(MASKS[c] + 1))
     return kinds
+
+
+def number(w):
+    return ("number", w)
+
+
+def record(n):
+    return ("record", n)
+
+
+# What a value, frames and a heap of the watched machine are with their tags forgotten.
+def bare(value):
+    return 0 if value is None else value[1]
+
+
+def bare_frames(frames):
+    return [(part, at, tuple(map(bare, boxes)), tuple(map(bare, stack))) for part, at, boxes, stack in frames]
+
+
+def bare_heap(heap):
+    return [(make, tuple(map(bare, fields))) for make, begun, mask, fields in heap]
+
+
+def run_makes():
+    """0 - 1 - 2, 0 - 3; make 2 has three fields, make 1 the first two of them."""
+    return [(None, []), (0, [NUMBER, ANY]), (1, [("whole", 1)]), (0, [])]
+
+
+def door(rows, takes=0, boxes=3, height=8, stretches=()):
+    return ([NUMBER] * takes, NUMBER, boxes, height, list(rows), list(stretches))
+
+
+# Rows that leave a begun record of make 1 with the fields 4 and 5, and of make 3.
+PAIR = [("make", 1), ("push", 4), ("fill", 1, 0), ("push", 5), ("fill", 1, 1), ("begin", 1)]
+LONE = [("make", 3), ("begin", 3)]
+# The same of make 2, with 6, with nothing, and a record of make 1.
+TRIPLE = [("make", 2), ("push", 6), ("fill", 2, 0), ("load", 2), ("fill", 2, 1)] + PAIR + [("fill", 2, 2), ("begin", 2)]
+PAIR_MADE = (1, True, 3, (number(4), number(5)))
+LONE_MADE = (3, True, 0, ())
+TRIPLE_MADE = (2, True, 7, (number(6), None, record(1)))
+BOXES = (number(7), number(-3), None)
+
+
+# A row behind others in a door that takes 7 and -3, with the stack ahead of and behind it and what else changes.
+def case(ahead, row, before, after, **more):
+    told = {"ahead": ahead, "row": row, "before": before, "after": after, "boxes": BOXES, "heap": [], "said": [],
+            "goes": len(ahead) + 1}
+    told.update(more)
+    for name in ("boxes", "heap", "said"):
+        told.setdefault(name + "_after", told[name])
+    return told
+
+
+def case_book(told):
+    rows = told["ahead"] + [told["row"], ("push", 0), ("give",), ("push", 1), ("give",)]
+    return (run_makes(), [door(rows, takes=2)])
+
+
+def reckoning(sign, one, other, left):
+    return case([("push", 9), ("push", one), ("push", other)], (sign,),
+                (number(9), number(one), number(other)), (number(9), number(left)))
+
+
+CASES = [
+    case([], ("push", 5), (), (number(5),)),
+    case([("push", 1)], ("push", -2147483648), (number(1),), (number(1), number(-2147483648))),
+    case([], ("load", 0), (), (number(7),)),
+    case([("push", 1)], ("load", 1), (number(1),), (number(1), number(-3))),
+    case([], ("load", 2), (), (None,)),
+    case([("push", 1), ("push", 2)], ("store", 2), (number(1), number(2)), (number(1),),
+         boxes_after=(number(7), number(-3), number(2))),
+    case([("load", 2)], ("store", 0), (None,), (), boxes_after=(None, number(-3), None)),
+    case([("make", 3)], ("store", 1), (record(0),), (), boxes_after=(number(7), record(0), None),
+         heap=[(3, False, 0, ())]),
+    case([("push", 1), ("push", 2)], ("dup",), (number(1), number(2)), (number(1), number(2), number(2))),
+    case([("load", 2)], ("dup",), (None,), (None, None)),
+    case([("push", 1), ("push", 2), ("push", 3)], ("swap",), (number(1), number(2), number(3)),
+         (number(1), number(3), number(2))),
+    case([("push", 1), ("push", 2)], ("drop",), (number(1), number(2)), (number(1),)),
+    case([("load", 2)], ("drop",), (None,), ()),
+    reckoning("add", 10, 3, 13),
+    reckoning("add", 2147483647, 1, -2147483648),
+    reckoning("sub", 10, 3, 7),
+    reckoning("sub", 3, 10, -7),
+    reckoning("mul", 10, -3, -30),
+    reckoning("mul", 65536, 65536, 0),
+    reckoning("div", 17, 5, 3),
+    reckoning("div", -7, 2, -4),
+    reckoning("div", -2147483648, -1, -2147483648),
+    reckoning("rem", 17, 5, 2),
+    reckoning("rem", 7, -2, -1),
+    reckoning("less", 3, 10, 1),
+    reckoning("less", 10, 3, 0),
+    reckoning("less", 3, 3, 0),
+    reckoning("same", 3, 3, 1),
+    reckoning("same", 3, -3, 0),
+    case([("push", 1)], ("jump", 4), (number(1),), (number(1),), goes=4),
+    case([("push", 1)], ("jump", 2), (number(1),), (number(1),), goes=2),
+    case([("push", 1), ("push", 0)], ("zero", 5), (number(1), number(0)), (number(1),), goes=5),
+    case([("push", 0), ("push", 1)], ("zero", 5), (number(0), number(1)), (number(0),)),
+    case([("push", -1)], ("zero", 4), (number(-1),), ()),
+    case(PAIR, ("kin", 1, 9), (record(0),), (record(0),), heap=[PAIR_MADE], goes=9),
+    case(PAIR, ("kin", 0, 9), (record(0),), (record(0),), heap=[PAIR_MADE], goes=9),
+    case(PAIR, ("kin", 2, 9), (record(0),), (record(0),), heap=[PAIR_MADE]),
+    case(PAIR, ("kin", 3, 9), (record(0),), (record(0),), heap=[PAIR_MADE]),
+    case(TRIPLE, ("kin", 1, 16), (record(0),), (record(0),), heap=[TRIPLE_MADE, PAIR_MADE], goes=16),
+    case(TRIPLE, ("kin", 3, 16), (record(0),), (record(0),), heap=[TRIPLE_MADE, PAIR_MADE]),
+    case(PAIR + LONE, ("kin", 1, 11), (record(0), record(1)), (record(0), record(1)), heap=[PAIR_MADE, LONE_MADE]),
+    case([], ("make", 1), (), (record(0),), heap_after=[(1, False, 0, (None, None))]),
+    case([("make", 1)], ("make", 3), (record(0),), (record(0), record(1)), heap=[(1, False, 0, (None, None))],
+         heap_after=[(1, False, 0, (None, None)), (3, False, 0, ())]),
+    case([("push", 1)], ("make", 2), (number(1),), (number(1), record(0)), heap_after=[(2, False, 0, (None,) * 3)]),
+    case([("make", 1), ("push", 4)], ("fill", 1, 0), (record(0), number(4)), (record(0),),
+         heap=[(1, False, 0, (None, None))], heap_after=[(1, False, 1, (number(4), None))]),
+    case([("make", 1), ("push", 4)], ("fill", 1, 1), (record(0), number(4)), (record(0),),
+         heap=[(1, False, 0, (None, None))], heap_after=[(1, False, 2, (None, number(4)))]),
+    case([("make", 1), ("load", 2)], ("fill", 1, 1), (record(0), None), (record(0),),
+         heap=[(1, False, 0, (None, None))], heap_after=[(1, False, 2, (None, None))]),
+    case([("make", 3), ("make", 1), ("dup",)], ("fill", 1, 1), (record(0), record(1), record(1)),
+         (record(0), record(1)), heap=[(3, False, 0, ()), (1, False, 0, (None, None))],
+         heap_after=[(3, False, 0, ()), (1, False, 2, (None, record(1)))]),
+    case([("make", 1), ("push", 4), ("fill", 1, 0), ("push", 6)], ("fill", 1, 0), (record(0), number(6)),
+         (record(0),), heap=[(1, False, 1, (number(4), None))], heap_after=[(1, False, 1, (number(6), None))]),
+    case(PAIR[:-1], ("begin", 1), (record(0),), (record(0),), heap=[(1, False, 3, (number(4), number(5)))],
+         heap_after=[PAIR_MADE]),
+    case(LONE[:-1], ("begin", 3), (record(0),), (record(0),), heap=[(3, False, 0, ())], heap_after=[LONE_MADE]),
+    case(PAIR, ("get", 1, 0), (record(0),), (number(4),), heap=[PAIR_MADE]),
+    case(PAIR, ("get", 1, 1), (record(0),), (number(5),), heap=[PAIR_MADE]),
+    case(TRIPLE, ("get", 1, 0), (record(0),), (number(6),), heap=[TRIPLE_MADE, PAIR_MADE]),
+    case(TRIPLE, ("get", 2, 1), (record(0),), (None,), heap=[TRIPLE_MADE, PAIR_MADE]),
+    case(TRIPLE, ("get", 2, 2), (record(0),), (record(1),), heap=[TRIPLE_MADE, PAIR_MADE]),
+    case(LONE + PAIR + [("push", 8)], ("put", 1, 0), (record(0), record(1), number(8)), (record(0),),
+         heap=[LONE_MADE, PAIR_MADE], heap_after=[LONE_MADE, (1, True, 3, (number(8), number(5)))]),
+    case(PAIR + [("dup",)], ("put", 1, 1), (record(0), record(0)), (), heap=[PAIR_MADE],
+         heap_after=[(1, True, 3, (number(4), record(0)))]),
+    case(TRIPLE + [("push", 8)], ("put", 1, 1), (record(0), number(8)), (), heap=[TRIPLE_MADE, PAIR_MADE],
+         heap_after=[(2, True, 7, (number(6), number(8), record(1))), PAIR_MADE]),
+    case([("push", 1), ("push", 2)], ("say",), (number(1), number(2)), (number(1),), said_after=[2]),
+    case([("push", 1), ("say",), ("load", 1)], ("say",), (number(-3),), (), said=[1], said_after=[1, -3]),
+]

@@ -26,6 +26,8 @@ UNSPOKEN = re.compile(
     r"namedtuple|NamedTuple|TypedDict|TYPE_CHECKING|abstractmethod)\b|dataclass|overload|contextmanager")
 UNUSED = set("register mro elements open input version_info with_traceback add_note format format_map".split())
 SPECIAL = set("__init__ __eq__ __repr__ __str__ __len__".split())
+TAKEN = {name for sort in (str, int, list, dict, set, bytes) for name in dir(sort)} - set(
+    "count index title find get join lower upper split strip copy add".split())
 
 
 def files():
@@ -58,6 +60,17 @@ def bound_names(tree):
             yield from (name.asname or name.name for name in node.names)
         if isinstance(node, ast.ExceptHandler) and node.name:
             yield node.name
+
+
+def method_names(tree):
+    return {node.name for top in tree.body if isinstance(top, ast.ClassDef) for node in top.body
+            if isinstance(node, ast.FunctionDef)}
+
+
+# The names of values that are given to an object anywhere in a file.
+def value_names(tree):
+    return {node.attr for node in ast.walk(tree)
+            if isinstance(node, ast.Attribute) and isinstance(node.ctx, ast.Store)}
 
 
 class TestLanguage(unittest.TestCase):
@@ -164,14 +177,46 @@ class TestLanguage(unittest.TestCase):
                     self.assertIn(node.id, bound | BUILT_IN, (path.name, node.lineno))
 
     def test_methods(self):
-        own = {node.name for path, tree in trees() for top in tree.body if isinstance(top, ast.ClassDef)
-               for node in top.body if isinstance(node, ast.FunctionDef)}
+        own = {name for path, tree in trees() for name in method_names(tree)}
         for path, tree in trees():
             for node in ast.walk(tree):
                 if isinstance(node, ast.Attribute):
                     self.assertNotIn(node.attr, UNUSED, (path.name, node.lineno))
                 if isinstance(node, ast.Call) and isinstance(node.func, ast.Attribute):
                     self.assertIn(node.func.attr, METHODS | own, (path.name, node.lineno))
+
+    def test_values_of_objects(self):
+        methods = {name for path, tree in trees() for name in method_names(tree)}
+        for path, tree in trees():
+            self.assertEqual(value_names(tree) & (methods | TAKEN | {"args"}), set(), path.name)
+
+    def test_locals(self):
+        for path, tree in trees():
+            tops = {name.name for node in tree.body if isinstance(node, ast.ImportFrom) for name in node.names}
+            tops |= {node.name for node in tree.body if isinstance(node, ast.ClassDef)}
+            for node in ast.walk(tree):
+                if isinstance(node, ast.FunctionDef):
+                    self.assertEqual(set(bound_names(ast.Module(node.body, []))) & tops, set(), (path.name, node.name))
+                    self.assertEqual({told.arg for told in node.args.args} & tops, set(), (path.name, node.name))
+
+    def test_classes_stand_where_they_may(self):
+        classes = {node.name for path, tree in trees() for node in tree.body if isinstance(node, ast.ClassDef)}
+        for path, tree in trees():
+            allowed = set()
+            for node in ast.walk(tree):
+                if isinstance(node, ast.ClassDef):
+                    allowed.update(node.bases)
+                if isinstance(node, ast.ExceptHandler):
+                    allowed.add(node.type)
+                if isinstance(node, ast.Call):
+                    allowed.add(node.func)
+                    if isinstance(node.func, ast.Attribute) and node.func.attr == "__init__":
+                        allowed.add(node.func.value)
+                    if isinstance(node.func, ast.Name) and node.func.id == "isinstance":
+                        allowed.add(node.args[1])
+            for node in ast.walk(tree):
+                if isinstance(node, ast.Name) and node.id in classes:
+                    self.assertIn(node, allowed, (path.name, node.lineno))
 
 
 if __name__ == "__main__":
