@@ -1,4 +1,10 @@
-"""Makes and kinds that several tests ask about."""
+"""Makes, kinds, rows and books that several tests ask about."""
+
+import random
+
+from stackwarden.flow import breaks, entry, outs
+from stackwarden.rows import SIGNS, wants
+from stackwarden.stands import stand_joined
 
 ANY = ("any",)
 NUMBER = ("number",)
@@ -175,3 +181,168 @@ CASES = [
     case([("push", 1), ("push", 2)], ("say",), (number(1), number(2)), (number(1),), said_after=[2]),
     case([("push", 1), ("say",), ("load", 1)], ("say",), (number(-3),), (), said=[1], said_after=[1, -3]),
 ]
+
+
+# Goes along every way of a part by itself, without joins. The stands that come to each place, and all
+# that may be told in a refusal: pairs of a place and a word.
+def explored(book, part, most=20000):
+    rows = book[1][part][4]
+    found = [set() for row in rows]
+    found[0].add(entry(book, part))
+    waiting = [(0, entry(book, part))]
+    refusals = set()
+    while waiting and most > 0:
+        most -= 1
+        at, stand = waiting.pop()
+        word = breaks(book, part, at, stand)
+        if word is not None:
+            refusals.add((at, word))
+            continue
+        for how, to, other in outs(book, part, at, stand):
+            if other not in found[to]:
+                found[to].add(other)
+                waiting.append((to, other))
+    for at, some in enumerate(found):
+        if len({len(stand[1]) for stand in some}) > 1:
+            refusals.add((at, "meet"))
+    return found, refusals, not waiting
+
+
+class BookMaker:
+    """Makes books by chance, always the same ones for the same seed; they are right, and often let by.
+
+    How often a row is put where it breaks is told by `careless`, from 0 to 1.
+    """
+
+    def __init__(self, seed, careless=0.0):
+        self.chance = random.Random(seed)
+        self.careless = careless
+
+    def made(self):
+        self.make_makes()
+        many = self.chance.randint(1, 4)
+        self.heads = [self.head(number) for number in range(many)]
+        parts = [self.part(number) for number in range(many)]
+        return (self.makes, parts)
+
+    def make_makes(self):
+        chance = self.chance
+        elders = [None] + [chance.randrange(c) for c in range(1, chance.randint(2, 6))]
+        sizes = [0]
+        for elder in elders[1:]:
+            sizes.append(min(6, sizes[elder] + chance.randint(0, 2)))
+        self.sizes = sizes
+        self.makes = [(None, [])]
+        for c in range(1, len(elders)):
+            own = sizes[c] - sizes[elders[c]]
+            self.makes.append((elders[c], [self.kind() for f in range(own)]))
+
+    def kind(self):
+        c = self.chance.randrange(len(self.sizes))
+        mask = self.chance.randrange(1 << self.sizes[c])
+        return self.chance.choice([ANY, NUMBER, NUMBER, ("whole", c), ("whole", c), ("raw", c, mask)])
+
+    def head(self, number):
+        chance = self.chance
+        if number == 0 or chance.random() < 0.4:
+            takes = [NUMBER] * chance.randint(0, 3)
+            gives = NUMBER
+        else:
+            takes = [self.kind() for k in range(chance.randint(0, 3))]
+            gives = self.kind()
+        return (takes, gives, chance.randint(max(len(takes), 1), 5), chance.randint(3, 6))
+
+    def part(self, number):
+        chance = self.chance
+        takes, gives, boxes, height = self.heads[number]
+        self.rows = []
+        self.stands = []
+        self.open = []
+        blank = [(list(head[0]), head[1], head[2], head[3], [], []) for head in self.heads]
+        self.book = (self.makes, blank)
+        self.stand = entry(self.book, number)
+        for k in range(chance.randint(4, 30)):
+            self.bind(0.3)
+            self.add(number)
+        self.finish(("give",) if gives == NUMBER else ("toss",))
+        stretches = []
+        ones = [at for at, stand in enumerate(self.stands) if stand is not None and len(stand[1]) == 1]
+        for k in range(chance.choice([0, 0, 1, 2]) if ones else 0):
+            first = chance.randrange(len(self.rows))
+            behind = chance.randint(first + 1, min(len(self.rows), first + 6))
+            stretches.append((first, behind, chance.choice(ones)))
+        return (list(takes), gives, boxes, height, self.rows, stretches)
+
+    # Binds some of the jumps that have no place yet to the place that comes next.
+    def bind(self, how_often):
+        for at, stand in list(self.open):
+            fits = self.stand is None or len(self.stand[1]) == len(stand[1])
+            if fits and self.chance.random() < how_often:
+                self.open.remove((at, stand))
+                self.rows[at] = self.rows[at][:-1] + (len(self.rows),)
+                self.stand = stand if self.stand is None else stand_joined(self.makes, self.stand, stand)
+
+    def add(self, number):
+        at = len(self.rows)
+        rows = self.book[1][number][4]
+        for k in range(60):
+            rows[:] = [None] * at + [self.row()]
+            fits = self.stand is None or breaks(self.book, number, at, self.stand) is None
+            if fits or self.chance.random() < self.careless:
+                break
+        self.emit(rows[at])
+        if self.stand is None or not fits:
+            return
+        leads = {how: stand for how, to, stand in outs(self.book, number, at, self.stand)}
+        if "jump" in leads:
+            self.aim(at, leads["jump"])
+        self.stand = leads.get("next")
+
+    # Lets a jump lead back, or leaves it open.
+    def aim(self, at, stand):
+        back = [to for to, other in enumerate(self.stands) if other is not None and len(other[1]) == len(stand[1])]
+        if back and self.chance.random() < 0.4:
+            self.rows[at] = self.rows[at][:-1] + (self.chance.choice(back),)
+        else:
+            self.open.append((at, stand))
+
+    def row(self):
+        chance = self.chance
+        sign = chance.choice(SIGNS + ("load", "store", "fill", "fill", "begin", "begin", "make", "get", "put", "call",
+                                      "push", "div", "toss"))
+        if sign in ("give", "toss", "jump") and chance.random() < 0.6:
+            sign = "push"
+        boxes = 1 if self.stand is None else len(self.stand[0])
+        numbers = {"word": chance.choice([0, 0, 1, 2, 3, -1, 7]), "box": chance.randrange(boxes),
+                   "make": chance.randrange(len(self.makes)), "place": 0, "part": chance.randrange(len(self.heads))}
+        if sign in ("fill", "get", "put"):
+            rich = [c for c in range(len(self.makes)) if self.sizes[c] > 0]
+            if not rich:
+                return ("push", 1)
+            numbers["make"] = chance.choice(rich)
+            numbers["field"] = chance.randrange(self.sizes[numbers["make"]])
+        return (sign,) + tuple(numbers[want] for want in wants(sign))
+
+    # Drops what stands there, binding the jumps that are open at each height, and ends with a number.
+    def finish(self, last):
+        if self.stand is not None:
+            self.open.append((len(self.rows), self.stand))
+            self.emit(("jump", 0))
+        for height in range(8, -1, -1):
+            self.stand = None
+            for at, stand in list(self.open):
+                if len(stand[1]) == height:
+                    self.open.remove((at, stand))
+                    self.rows[at] = self.rows[at][:-1] + (len(self.rows),)
+                    self.stand = stand if self.stand is None else stand_joined(self.makes, self.stand, stand)
+            if self.stand is not None and height > 0:
+                stand = self.stand
+                self.emit(("drop",))
+                self.open.append((len(self.rows), (stand[0], stand[1][:-1])))
+                self.emit(("jump", 0))
+        self.emit(("push", self.chance.randrange(5)))
+        self.emit(last)
+
+    def emit(self, row):
+        self.rows.append(row)
+        self.stands.append(self.stand)
