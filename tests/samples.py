@@ -73,6 +73,22 @@ def door(rows, takes=0, boxes=3, height=8, stretches=()):
     return ([NUMBER] * takes, NUMBER, boxes, height, list(rows), list(stretches))
 
 
+# The numbers of the parts at which a run may be started.
+def doors(book):
+    return [part for part, told in enumerate(book[1]) if told[1] == NUMBER and set(told[0]) <= {NUMBER}]
+
+
+END = [("push", 0), ("give",)]
+# Turns boxes 0 to 7 about by one, box 7 to box 0.
+TURN = [("load", 7)] + [row for b in range(6, -1, -1) for row in (("load", b), ("store", b + 1))] + [("store", 0)]
+
+
+# A book of one part.
+def lone(rows, takes=(), gives=NUMBER, boxes=2, height=4, stretches=(), makes=None):
+    return (some_makes() if makes is None else makes,
+            [(list(takes), gives, max(boxes, len(takes)), height, list(rows), list(stretches))])
+
+
 # Rows that leave a begun record of make 1 with the fields 4 and 5, and of make 3.
 PAIR = [("make", 1), ("push", 4), ("fill", 1, 0), ("push", 5), ("fill", 1, 1), ("begin", 1)]
 LONE = [("make", 3), ("begin", 3)]
@@ -181,6 +197,28 @@ CASES = [
     case([("push", 1), ("push", 2)], ("say",), (number(1), number(2)), (number(1),), said_after=[2]),
     case([("push", 1), ("say",), ("load", 1)], ("say",), (number(-3),), (), said=[1], said_after=[1, -3]),
 ]
+
+
+def whole(c):
+    return ("whole", c)
+
+
+def num(w=1):
+    return ("num", w)
+
+
+def var(x):
+    return ("var", x)
+
+
+def tree_makes():
+    """0 - 1 - 2, 0 - 3; make 1 has a number and a whole 1, make 2 a whole 3 behind them, make 3 nothing."""
+    return [(None, []), (0, [NUMBER, whole(1)]), (1, [whole(3)]), (0, [])]
+
+
+def read_makes():
+    """The same, but that the second field of make 1 is a whole 0: so a record of each can be made."""
+    return [(None, []), (0, [NUMBER, whole(0)]), (1, [whole(3)]), (0, [])]
 
 
 # Goes along every way of a part by itself, without joins. The stands that come to each place, and all

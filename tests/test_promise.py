@@ -2,7 +2,8 @@
 
 import unittest
 
-from samples import CASES, NUMBER, BookMaker, bare_frames, bare_heap, case_book, door, explored, run_makes
+from samples import (CASES, NUMBER, BookMaker, bare_frames, bare_heap, case_book, door, doors, explored,
+                     run_makes)
 from stackwarden.books import check_book
 from stackwarden.errors import NoPass
 from stackwarden.plain import Plain
@@ -17,10 +18,6 @@ INPUTS = ((0, 0, 0), (1, 2, 3), (-5, 0, 2147483647))
 
 def made_books():
     return [BookMaker(seed, (0.0, 0.002, 0.01)[seed % 3]).made() for seed in range(5000, 5400)]
-
-
-def doors(book):
-    return [part for part, told in enumerate(book[1]) if told[1] == NUMBER and set(told[0]) <= {NUMBER}]
 
 
 def stands_or_none(book):

@@ -1,19 +1,13 @@
 import copy
 import unittest
 
-from samples import (ANY, CASES, NUMBER, PAIR, BookMaker, all_kinds, case_book, door, explored, run_makes, some_makes)
+from samples import (ANY, CASES, END, NUMBER, PAIR, TURN, BookMaker, all_kinds, case_book, door, explored, lone,
+                     run_makes, some_makes)
 from stackwarden.books import check_book
 from stackwarden.errors import NoPass, WardenError
 from stackwarden.kinds import joined
 from stackwarden.stands import stand_joined
 from stackwarden.warden import stands, warded
-
-END = [("push", 0), ("give",)]
-
-
-def lone(rows, takes=(), gives=NUMBER, boxes=2, height=4, stretches=(), makes=None):
-    return (some_makes() if makes is None else makes,
-            [(list(takes), gives, max(boxes, len(takes)), height, list(rows), list(stretches))])
 
 
 # What the warden should tell, by all the ways gone along one by one.
@@ -143,10 +137,6 @@ class TestJoins(WardenCase):
         self.assertIsNotNone(stands(lone(rows + [("drop",)] + END, takes), 0))
         self.assert_refused(lone(rows + [("say",)] + END, takes), (5, "kind"))
         self.assert_refused(lone(rows + [("give",)], takes), (5, "kind"))
-
-
-# Turns boxes 0 to 7 about by one, box 7 to box 0.
-TURN = [("load", 7)] + [row for b in range(6, -1, -1) for row in (("load", b), ("store", b + 1))] + [("store", 0)]
 
 
 class TestLoops(WardenCase):
