@@ -384,3 +384,158 @@ class BookMaker:
     def emit(self, row):
         self.rows.append(row)
         self.stands.append(self.stand)
+
+
+class ProgramMaker:
+    """Makes programs by chance, always the same ones for the same seed; they keep the rules, and are mostly small."""
+
+    def __init__(self, seed):
+        self.chance = random.Random(seed)
+
+    def made(self):
+        chance = self.chance
+        self.make_makes()
+        self.heads = [self.head(number) for number in range(chance.randint(1, 4))]
+        return (self.makes, [self.part(number) for number in range(len(self.heads))])
+
+    # Each field can be made of makes ahead of its own, so that a record of every make can be made.
+    def make_makes(self):
+        chance = self.chance
+        self.makes = [(None, [])]
+        self.fields = [[]]
+        for c in range(1, chance.randint(2, 6)):
+            elder = chance.randrange(c)
+            room = min(2, 6 - len(self.fields[elder]))
+            kinds = [chance.choice([NUMBER, ("whole", 0), ("whole", chance.randrange(c))])
+                     for f in range(chance.randint(0, room))]
+            self.makes.append((elder, kinds))
+            self.fields.append(self.fields[elder] + kinds)
+
+    def is_under(self, c, other):
+        return c is not None and (c == other or self.is_under(self.makes[c][0], other))
+
+    def fits(self, kind, other):
+        return kind == other or kind[0] == other[0] == "whole" and self.is_under(kind[1], other[1])
+
+    def kind(self):
+        return self.chance.choice([NUMBER, ("whole", self.chance.randrange(len(self.makes)))])
+
+    def head(self, number):
+        chance = self.chance
+        is_door = number == 0 or chance.random() < 0.4
+        kinds = [NUMBER if is_door else self.kind() for k in range(chance.randint(0, 2))]
+        return ([("a" + "bcd"[k], kind) for k, kind in enumerate(kinds)], NUMBER if is_door else self.kind())
+
+    def part(self, number):
+        takes, gives = self.heads[number]
+        self.gives = gives
+        self.many = 0
+        known = dict(takes)
+        body = self.statements(known, self.chance.choice([1, 2, 3]), self.chance.randint(0, 5))
+        return (list(takes), gives, body, self.value(known, gives, self.chance.choice([1, 2, 3])))
+
+    # Adds to what is known the list's own variables.
+    def statements(self, known, depth, many):
+        return [self.statement(known, depth) for k in range(many)]
+
+    def inner(self, known, depth):
+        return self.statements(dict(known), depth - 1, self.chance.choice([0, 1, 1, 2]))
+
+    # Names that are gone may come again.
+    def new_name(self, known):
+        self.many += 1
+        free = [name for name in ("x", "y", "z", "abcdefgh") if name not in known]
+        return self.chance.choice(free) if free else "v" + "".join("abcdefghij"[int(sign)] for sign in str(self.many))
+
+    def statement(self, known, depth):
+        chance = self.chance
+        word = chance.choice(["let", "let", "set", "set", "put", "say", "say", "drop", "give", "toss", "if", "while",
+                              "while", "kin", "try", "try"])
+        if word in ("give", "toss") and chance.random() < 0.6:
+            word = "say"
+        if depth <= 0 and word in ("if", "while", "kin", "try"):
+            word = "set"
+        if word in ("if", "while", "kin", "try"):
+            return self.nested(known, depth, word)
+        depth = chance.choice([1, 2, 2, 3])
+        if word == "set" and known:
+            name = chance.choice(sorted(known))
+            return ("set", name, self.value(known, known[name], depth))
+        rich = [c for c in range(len(self.makes)) if self.fields[c]]
+        if word == "put" and rich:
+            c = chance.choice(rich)
+            f = chance.randrange(len(self.fields[c]))
+            return ("put", c, f, self.value(known, ("whole", c), depth), self.value(known, self.fields[c][f], depth))
+        if word in ("say", "toss", "put"):
+            return ("toss" if word == "toss" else "say", self.value(known, NUMBER, depth))
+        if word == "drop":
+            return ("drop", self.value(known, self.kind(), depth))
+        if word == "give":
+            return ("give", self.value(known, self.gives, depth))
+        kind = self.kind()
+        tree = self.value(known, kind, depth)
+        name = self.new_name(known)
+        known[name] = kind
+        return ("let", name, kind, tree)
+
+    def nested(self, known, depth, word):
+        chance = self.chance
+        if word == "if":
+            return ("if", self.value(known, NUMBER, 2), self.inner(known, depth), self.inner(known, depth))
+        if word == "while":
+            numbers = sorted(name for name in known if known[name] == NUMBER)
+            if not numbers or chance.random() < 0.2:
+                return ("while", self.value(known, NUMBER, 2), self.inner(known, depth))
+            # Comes to an end if what stands ahead of it and in it lets it.
+            name = chance.choice(numbers)
+            down = ("set", name, ("sub", ("var", name), ("num", 1)))
+            return ("while", ("less", ("num", 0), ("var", name)), self.inner(known, depth) + [down])
+        if word == "kin":
+            c = chance.randrange(len(self.makes))
+            name = self.new_name(known)
+            more = dict(known)
+            more[name] = ("whole", c)
+            asked = self.value(known, ("whole", 0), 2)
+            return ("kin", c, name, asked, self.inner(more, depth), self.inner(known, depth))
+        name = self.new_name(known)
+        more = dict(known)
+        more[name] = NUMBER
+        first = self.inner(known, depth)
+        if chance.random() < 0.5:
+            first.append(("toss", self.value(known, NUMBER, 1)))
+        return ("try", first, name, self.inner(more, depth))
+
+    # An expression of a kind that is beneath the one told.
+    def value(self, known, kind, depth):
+        chance = self.chance
+        fitting = [name for name in sorted(known) if self.fits(known[name], kind)]
+        if fitting and (depth <= 1 or chance.random() < 0.35):
+            return ("var", chance.choice(fitting))
+        if depth <= 1:
+            return self.least(kind)
+        way = chance.choice(["own", "own", "own", "get", "call", "either"])
+        if way == "get":
+            spots = [(c, f) for c in range(len(self.makes)) for f, other in enumerate(self.fields[c])
+                     if self.fits(other, kind)]
+            if spots:
+                c, f = chance.choice(spots)
+                return ("get", c, f, self.value(known, ("whole", c), depth - 1))
+        if way == "call":
+            fitting = [number for number, head in enumerate(self.heads) if self.fits(head[1], kind)]
+            if fitting:
+                number = chance.choice(fitting)
+                return ("call", number, [self.value(known, other, depth - 1) for name, other in self.heads[number][0]])
+        if way == "either":
+            return ("either", self.value(known, NUMBER, depth - 1), self.value(known, kind, depth - 1),
+                    self.value(known, kind, depth - 1))
+        if kind == NUMBER:
+            return (chance.choice(["add", "sub", "mul", "div", "rem", "less", "same"]),
+                    self.value(known, NUMBER, depth - 1), self.value(known, NUMBER, depth - 1))
+        c = chance.choice([c for c in range(len(self.makes)) if self.is_under(c, kind[1])])
+        return ("new", c, [self.value(known, other, depth - 1) for other in self.fields[c]])
+
+    # One that needs no variable.
+    def least(self, kind):
+        if kind == NUMBER:
+            return ("num", self.chance.choice([0, 0, 1, 1, 2, 3, -1, 7]))
+        return ("new", kind[1], [self.least(other) for other in self.fields[kind[1]]])
