@@ -84,9 +84,9 @@ def order_of_makes(units, owners):
     return [THING] + sorted(owners, key=lambda name: (count_elders(units, owners[name]), name))
 
 
-# For each unit, the numbers in the book of its makes, or of its parts.
-def numbers_of(claims, names):
-    return [[names.index(claim[0]) for claim in some] for some in claims]
+# The numbers in the book of one unit's makes, or of its parts.
+def numbers_of(some, names):
+    return [names.index(claim[0]) for claim in some]
 
 
 def linked_makes(units, owners, numbers, names):
@@ -143,8 +143,8 @@ def linked(units):
     refuse("unlike", unlike_makes(units, make_owners))
     make_names = order_of_makes(units, make_owners)
     part_names = sorted(part_owners)
-    make_numbers = numbers_of(make_told, make_names)
-    part_numbers = numbers_of(part_told, part_names)
+    make_numbers = [numbers_of(some, make_names) for some in make_told]
+    part_numbers = [numbers_of(some, part_names) for some in part_told]
     makes = linked_makes(units, make_owners, make_numbers, make_names)
     refuse("unlike", unlike_parts(units, part_owners, make_numbers, makes))
     check_size(make_names, part_names)

@@ -115,8 +115,9 @@ class Reading:
         elif word == "set":
             call.known[tree[1]] = self.value_of(call, tree[2])
         elif word == "put":
-            pair = self.values_of(call, tree[3:])
-            pair[0].fields[tree[2]] = pair[1]
+            record = self.value_of(call, tree[3])
+            value = self.value_of(call, tree[4])
+            record.fields[tree[2]] = value
         elif word == "say":
             self.said.append(self.value_of(call, tree[1]))
         elif word == "toss":

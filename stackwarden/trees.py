@@ -17,8 +17,8 @@ def is_told_kind(makes, kind):
     return kind[0] in ("number", "whole") and is_kind(makes, kind)
 
 
-def fields_are_told(makes):
-    return all([all([is_told_kind(makes, kind) for kind in make[1]]) for make in makes])
+def all_told(makes, kinds):
+    return all([is_told_kind(makes, kind) for kind in kinds])
 
 
 def kinds_taken(part):
@@ -34,7 +34,7 @@ def head_is_right(makes, part):
     names = [take[0] for take in part[0]]
     if len(set(names)) < len(names) or not all([is_name(name) for name in names]):
         return False
-    return all([is_told_kind(makes, kind) for kind in kinds_taken(part) + [part[1]]])
+    return all_told(makes, kinds_taken(part) + [part[1]])
 
 
 def must(part, right):
@@ -162,8 +162,9 @@ def check_body(program, part):
 
 
 def check_program(program):
-    must(None, makes_are_right(program[0]) and fields_are_told(program[0]))
+    makes = program[0]
+    must(None, makes_are_right(makes) and all([all_told(makes, make[1]) for make in makes]))
     for part, told in enumerate(program[1]):
-        must(part, head_is_right(program[0], told))
+        must(part, head_is_right(makes, told))
     for part in range(len(program[1])):
         check_body(program, part)

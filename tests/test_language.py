@@ -73,6 +73,17 @@ def value_names(tree):
             if isinstance(node, ast.Attribute) and isinstance(node.ctx, ast.Store)}
 
 
+KEYWORDS = {"sorted": {"key", "reverse"}, "min": {"key", "default"}, "max": {"key", "default"}, "sum": {"start"},
+            "enumerate": {"start"}, "zip": {"strict"}}
+
+
+# The name of what a node calls, by itself or as a method; None where it calls nothing.
+def called(node):
+    if not isinstance(node, ast.Call):
+        return None
+    return node.func.id if isinstance(node.func, ast.Name) else getattr(node.func, "attr", None)
+
+
 class TestLanguage(unittest.TestCase):
     def test_files(self):
         for path in files():
@@ -189,6 +200,62 @@ class TestLanguage(unittest.TestCase):
         methods = {name for path, tree in trees() for name in method_names(tree)}
         for path, tree in trees():
             self.assertEqual(value_names(tree) & (methods | TAKEN | {"args"}), set(), path.name)
+
+    # L19: the program's own errors alone are taken, and each is made where it is raised.
+    def test_errors(self):
+        own = {node.name for path, tree in trees() for node in tree.body
+               if isinstance(node, ast.ClassDef) and node.bases}
+        for path, tree in trees():
+            for node in ast.walk(tree):
+                where = (path.name, getattr(node, "lineno", None))
+                if isinstance(node, ast.ExceptHandler):
+                    self.assertTrue(isinstance(node.type, ast.Name) and node.type.id in own, where)
+                if isinstance(node, ast.Raise):
+                    self.assertIsInstance(node.exc, ast.Call, where)
+                    self.assertTrue(isinstance(node.exc.func, ast.Name) and node.exc.func.id in own, where)
+                    self.assertIsNone(node.cause, where)
+
+    # L22, L23, L24: how Python's own names are called.
+    def test_calls(self):
+        for path, tree in trees():
+            walked = set()
+            for node in ast.walk(tree):
+                if isinstance(node, (ast.For, ast.comprehension)):
+                    walked.add(node.iter)
+                if called(node) in ("list", "tuple", "dict", "sorted", "sum", "any", "all", "enumerate", "zip"):
+                    walked.update(node.args[:1])
+            asked = set()
+            for node in ast.walk(tree):
+                if isinstance(node, ast.Compare):
+                    asked.update([node.left] + node.comparators)
+                if called(node) in ("len", "sorted"):
+                    asked.update(node.args[:1])
+            for node in ast.walk(tree):
+                where = (path.name, getattr(node, "lineno", None))
+                if called(node) in ("zip", "enumerate", "reversed", "range", "items", "keys", "values"):
+                    self.assertIn(node, walked, where)
+                if called(node) in ("set", "frozenset") or isinstance(node, ast.Set):
+                    self.assertIn(node, asked, where)
+                if isinstance(node, ast.Call):
+                    allowed = KEYWORDS.get(called(node), set())
+                    self.assertTrue({keyword.arg for keyword in node.keywords} <= allowed, where)
+
+    # L22: they are called, not kept as values; int, str and their like also stand in isinstance and as a key.
+    def test_python_s_own_are_called(self):
+        for path, tree in trees():
+            allowed = set()
+            for node in ast.walk(tree):
+                if isinstance(node, ast.Call):
+                    allowed.add(node.func)
+                    if called(node) == "isinstance":
+                        allowed.update(ast.walk(node.args[1]))
+                if isinstance(node, ast.keyword):
+                    allowed.add(node.value)
+                if isinstance(node, ast.ClassDef):
+                    allowed.update(node.bases)
+            for node in ast.walk(tree):
+                if isinstance(node, ast.Name) and node.id in BUILT_IN:
+                    self.assertIn(node, allowed, (path.name, node.lineno))
 
     def test_locals(self):
         for path, tree in trees():
